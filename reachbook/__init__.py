@@ -1,0 +1,1 @@
+"""Reachbook: a web that changes, and what is asked of it."""
