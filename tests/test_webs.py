@@ -3,8 +3,8 @@
 import unittest
 
 from helping import (
-    NAMES, Alike, fields, full_of_points, full_of_ties, refused,
-    refused_unchanged, told, web_with,
+    NAMES, Alike, fields, full_of_points, full_of_ties, refused_unchanged,
+    told, web_with,
 )
 from reachbook import webs
 from reachbook.errors import (
