@@ -28,6 +28,7 @@ rjust rpartition rsplit rstrip setdefault split splitlines startswith strip upda
 zfill bit_length add discard sort format from_iterable __init__
 """.split()
 BARRED = ["register", "mro", "elements", "open", "input", "law", "version_info"]
+WORDS = ["_" + "wall", "dataclass", "overload", "contextmanager"]
 
 
 def sources():
@@ -79,6 +80,22 @@ class LanguageTest(unittest.TestCase):
                     self.assertNotEqual(alias.name, "*")
                     if node.module in LIBRARY:
                         self.assertIn(alias.name, LIBRARY[node.module])
+
+    def test_imports_go_one_way(self):
+        leads = {name[:-3]: [] for name in sources()}
+        for name, node in nodes(ast.ImportFrom):
+            if node.module.startswith("reachbook."):
+                leads[name[:-3]].append(node.module[len("reachbook."):])
+        done = []
+        while len(done) < len(leads):
+            free = [name for name in leads if name not in done and set(leads[name]) <= set(done)]
+            self.assertTrue(free, leads)
+            done.extend(free)
+
+    def test_words(self):
+        for name, text in sources().items():
+            for word in WORDS:
+                self.assertNotIn(word, text, name)
 
     def test_names(self):
         for name, node in nodes((ast.Name, ast.arg, ast.FunctionDef, ast.ClassDef)):
