@@ -244,3 +244,95 @@ def spoil(thing):
     elif not isinstance(thing, (int, str)) and thing is not None:
         for part in vars(thing).values():
             spoil(part)
+
+
+# Deeds as a book's bundles have them, and what is known of them without a book.
+
+METHODS = {
+    "point": "put_point", "gone": "drop_point", "rename": "rename", "tie": "put_tie",
+    "untie": "drop_tie", "load": "set_load", "join": "join", "part": "part",
+}
+
+
+def do_deed(web, deed):
+    """Does a deed to a web, or to whatever else has a web's deeds."""
+    return getattr(web, METHODS[deed[0]])(*deed[1:])
+
+
+def made_name(chance, web):
+    """Mostly a point of the web, else a name that may be none of its points."""
+    names = web.points()
+    if names and chance.below(6):
+        return names[chance.below(len(names))]
+    return NAMES[chance.below(8)]
+
+
+def made_number(chance, web):
+    """Mostly the number of a tie of the web, else one that may be none."""
+    numbers = [tie.number for tie in web.ties()]
+    if numbers and chance.below(6):
+        return numbers[chance.below(len(numbers))]
+    return chance.below(web.given() + 2)
+
+
+def made_part(chance, web):
+    name = made_name(chance, web)
+    numbers = [
+        tie.number for tie in web.ties()
+        if name in (tie.tail, tie.head) and chance.below(2)
+    ]
+    if chance.below(6) == 0:
+        numbers.append(made_number(chance, web))
+    return ("part", name, NAMES[chance.below(8)], numbers)
+
+
+def made_deed(chance, web):
+    """A deed by chance, of few names: most are done, some refused."""
+    word = list(METHODS)[chance.below(8)]
+    if word in ("point", "gone"):
+        return (word, NAMES[chance.below(8)])
+    if word == "rename":
+        return (word, made_name(chance, web), NAMES[chance.below(8)])
+    if word == "join":
+        return (word, made_name(chance, web), made_name(chance, web))
+    if word == "tie":
+        ends = (made_name(chance, web), made_name(chance, web))
+        rest = [(), (chance.below(4),), (chance.below(4), chance.below(2) == 0)]
+        return (word, *ends, *rest[chance.below(3)])
+    if word == "untie":
+        return (word, made_number(chance, web))
+    if word == "load":
+        return (word, made_number(chance, web), chance.below(4))
+    return made_part(chance, web)
+
+
+OF_TWO_NAMES = ["together", "comes", "must", "points", "ring", "least", "fewest", "apart"]
+OF_NO_NAMES = ["pieces", "knots", "sides", "lightest", "starts", "leaves"]
+
+
+def all_texts(points):
+    """Questions' texts: each kind, of all of some names."""
+    texts = list(OF_NO_NAMES)
+    for one in points:
+        for other in points:
+            texts.extend(f"{word} {one} {other}" for word in OF_TWO_NAMES)
+            texts.extend(f"past {one} {other} {name}" for name in points)
+    return texts
+
+
+def made_text(chance, web):
+    """A question's text by chance, of few names: some are refused."""
+    words = OF_TWO_NAMES + OF_NO_NAMES + ["past"]
+    word = words[chance.below(len(words))]
+    if word in OF_NO_NAMES:
+        return word
+    many = 3 if word == "past" else 2
+    return " ".join([word] + [made_name(chance, web) for _ in range(many)])
+
+
+def outcome(call, *handed):
+    """What is told, or how it is refused, as what can be compared."""
+    try:
+        return shown(call(*handed))
+    except WebError as error:
+        return [type(error).__name__, shown(vars(error))]

@@ -106,6 +106,28 @@ class LanguageTest(unittest.TestCase):
                 if word in vars(builtins):
                     self.assertTrue(is_read and word in BUILTINS)
 
+    def test_names_of_imports_and_classes_mean_nothing_else(self):
+        for name, text in sources().items():
+            tree = ast.parse(text)
+            bound = [node.name for node in tree.body if isinstance(node, ast.ClassDef)]
+            for node in ast.walk(tree):
+                if isinstance(node, ast.ImportFrom):
+                    bound.extend(alias.name for alias in node.names)
+            self.assertEqual(len(bound), len(set(bound)), name)
+            read = []
+            for node in ast.walk(tree):
+                if isinstance(node, ast.Name) and isinstance(node.ctx, ast.Load):
+                    read.append(node.id)
+                elif isinstance(node, ast.Name):
+                    self.assertNotIn(node.id, bound, (name, node.lineno))
+                elif isinstance(node, ast.arg):
+                    self.assertNotIn(node.arg, bound, (name, node.lineno))
+                elif isinstance(node, (ast.MatchAs, ast.ExceptHandler)):
+                    self.assertNotIn(node.name, bound, (name, node.lineno))
+            for node in tree.body:
+                if isinstance(node, ast.ImportFrom):
+                    self.assertLessEqual({alias.name for alias in node.names}, set(read), name)
+
     def test_methods(self):
         own = [node.name for _, node in nodes(ast.FunctionDef)]
         for name, node in nodes(ast.Call):
